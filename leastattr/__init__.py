@@ -1,0 +1,1 @@
+"""Leastattr: least attributes of a grammar, for all trees."""

@@ -1,0 +1,76 @@
+"""The sessions under "Examples" of the document that need no other files than those that are there."""
+
+import unittest
+
+SESSIONS = [
+    '''
+    >>> from leastattr.grammars import Grammar
+    >>> from leastattr.trees import answers_of, count_nodes, value
+    >>> sums = Grammar(8, [("leaf", ("n",)), ("row", ("size", "total"))], [("one", "leaf", (), 1, (((1, (), 0),),)), ("nil", "row", (), 0, ((), ())), ("put", "row", ("row", "leaf"), 0, (((1, (0, -1), -1), (1, (-1, -1), -1)), ((1, (1, -1), -1), (1, (-1, 0), -1))))], "row", [(0, 2, 1)])
+    >>> tree = [("nil", (), ()), ("one", (), (5,)), ("put", (0, 1), ()), ("put", (2, 1), ())]
+    >>> [value(sums, tree), answers_of(sums, tree), count_nodes(sums, tree)]
+    [(2, 10), [14], 5]
+    ''',
+    '''
+    >>> from leastattr.grammars import Grammar
+    >>> Grammar(8, [("leaf", ("n", "n"))], [("one", "leaf", (), 0, ((),))], "leaf", [(0, 1)])
+    raises NoGrammar('kinds', 0)
+    ''',
+    '''
+    >>> from leastattr.grammars import Grammar
+    >>> from leastattr.trees import count_nodes
+    >>> twice = Grammar(8, [("k", ("x",))], [("one", "k", (), 0, (((1, (), -1),),)), ("two", "k", ("k", "k"), 0, (((1, (0, -1), -1), (1, (-1, 0), -1)),))], "k", [(0, 1)])
+    >>> count_nodes(twice, [("one", (), ())] + [("two", (place, place), ()) for place in range(60)])
+    2305843009213693951
+    ''',
+    '''
+    >>> from leastattr.modules import count, echelon
+    >>> [echelon(4, 2, [(4, 3)]), count(4, 2, [(4, 3)])]
+    [[(4, 3), (0, 4)], 16]
+    ''',
+    '''
+    >>> from leastattr.modules import coefficients, is_in
+    >>> [is_in(4, 2, [(4, 3)], (8, 6)), is_in(4, 2, [(4, 3)], (8, 3)), coefficients(4, 2, [(4, 3)], (0, 12))]
+    [True, False, (4,)]
+    ''',
+    '''
+    >>> from leastattr.modules import kernel, meet
+    >>> [kernel(4, 2, [(4, 3)]), meet(4, 2, [(4, 3)], [(0, 2)])]
+    [[(1, 4)], [(0, 4)]]
+    ''',
+    '''
+    >>> from leastattr.modules import generators
+    >>> generators(4, 2, [(2, 0), (0, 8), (2, 8)])
+    2
+    ''',
+    '''
+    >>> from leastattr.modules import smith
+    >>> [smith(4, [(2, 8), (2, 0)]), smith(4, [(8, 0), (0, 8)])]
+    [[1, 3], [3, 3]]
+    ''',
+]
+
+
+def told_by(session):
+    """What the last call of a session tells, and what stands behind it."""
+    rows = [row.strip() for row in session.strip().split("\n")]
+    names = {}
+    for row in rows[:-2]:
+        exec(row[4:], names)
+    try:
+        return repr(eval(rows[-2][4:], names)), rows[-1]
+    except ValueError as error:
+        return "raises " + repr(error), rows[-1]
+
+
+class ExamplesTest(unittest.TestCase):
+
+    def test_all_sessions(self):
+        for session in SESSIONS:
+            with self.subTest(session=session):
+                found, wish = told_by(session)
+                self.assertEqual(found, wish)
+
+
+if __name__ == "__main__":
+    unittest.main()

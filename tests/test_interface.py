@@ -1,0 +1,49 @@
+"""The rows of the interface: names, parameters, and the files in which things are defined."""
+
+import inspect
+import unittest
+
+from leastattr import errors, grammars, modules, trees
+
+ROWS = [
+    (grammars, "Grammar", ["width", "kinds", "rules", "top", "answers"]),
+    (trees, "value", ["grammar", "tree"]),
+    (trees, "kind_of", ["grammar", "tree"]),
+    (trees, "count_nodes", ["grammar", "tree"]),
+    (trees, "answers_of", ["grammar", "tree"]),
+    (trees, "kinds_of_context", ["grammar", "context"]),
+    (trees, "context_map", ["grammar", "context"]),
+    (trees, "fill", ["grammar", "context", "tree"]),
+    (modules, "echelon", ["width", "size", "rows"]),
+    (modules, "count", ["width", "size", "rows"]),
+    (modules, "is_in", ["width", "size", "rows", "row"]),
+    (modules, "coefficients", ["width", "size", "rows", "row"]),
+    (modules, "kernel", ["width", "size", "rows"]),
+    (modules, "meet", ["width", "size", "one", "other"]),
+    (modules, "generators", ["width", "size", "rows"]),
+    (modules, "picked", ["width", "size", "rows"]),
+    (modules, "smith", ["width", "table"]),
+    (errors, "NoGrammar", ["part", "index"]),
+    (errors, "NoRows", ["part", "index"]),
+    (errors, "NoTree", ["index"]),
+    (errors, "NoContext", ["index"]),
+]
+
+
+class InterfaceTest(unittest.TestCase):
+
+    def test_names_and_parameters(self):
+        for module, name, parameters in ROWS:
+            with self.subTest(name=name):
+                found = inspect.signature(getattr(module, name)).parameters
+                self.assertEqual(list(found), parameters)
+                kinds = [parameter.kind for parameter in found.values()]
+                self.assertEqual(set(kinds), {inspect.Parameter.POSITIONAL_OR_KEYWORD})
+
+    def test_each_is_defined_in_its_own_file(self):
+        for module, name, _ in ROWS:
+            self.assertEqual(getattr(module, name).__module__, module.__name__)
+
+
+if __name__ == "__main__":
+    unittest.main()
