@@ -48,3 +48,11 @@ def is_row(thing, size):
 def is_integers(thing, size):
     """Whether a value is a tuple of so many integers."""
     return isinstance(thing, tuple) and is_row(thing, size)
+
+
+def first_wrong(thing, size):
+    """None for a list or tuple of so many integers; otherwise the index of the first that is none, or -1."""
+    if not is_sequence(thing, size, size):
+        return -1
+    wrong = [index for index, number in enumerate(thing) if not is_integer(number)]
+    return wrong[0] if wrong else None

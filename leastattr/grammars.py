@@ -1,8 +1,8 @@
 """Grammars: kinds of nodes, their attributes, and the rules by which nodes get them."""
 
 from leastattr.checks import is_between, is_known, is_name, is_sequence, is_tuple, is_width
-from leastattr.errors import NoGrammar
-from leastattr.sums import is_form, is_sum, reduced, reduced_sum
+from leastattr.errors import NoGrammar, NoKind
+from leastattr.sums import is_sum, reduced, reduced_sum, wrong_answers
 
 MOST_KINDS = 5
 MOST_ATTRIBUTES = 3
@@ -65,6 +65,19 @@ def attribute_counts(kinds):
     return {name: len(attributes) for name, attributes in kinds}
 
 
+def kind_places(grammar):
+    """A dict from the names of the kinds of a grammar to their indexes."""
+    return {name: place for place, (name, _) in enumerate(grammar.kinds)}
+
+
+def kind_place(grammar, kind):
+    """The index of a kind of a grammar; raises NoKind."""
+    places = kind_places(grammar)
+    if not is_known(kind, places):
+        raise NoKind(kind)
+    return places[kind]
+
+
 def checked_rules(rules, sizes, width):
     """The rules of a grammar as a tuple, with reduced factors; raises NoGrammar."""
     if not is_sequence(rules, 1, MOST_RULES):
@@ -96,9 +109,7 @@ def is_rule(thing, sizes):
 
 def checked_answers(answers, many, width):
     """The forms of answers over so many attributes as a tuple, reduced; raises NoGrammar."""
-    if not is_sequence(answers, 1, MOST_ANSWERS):
-        raise NoGrammar("answers", -1)
-    for index, item in enumerate(answers):
-        if not is_form(item, many):
-            raise NoGrammar("answers", index)
+    wrong = wrong_answers(answers, many, MOST_ANSWERS)
+    if wrong is not None:
+        raise NoGrammar("answers", wrong)
     return tuple([reduced(form, width) for form in answers])

@@ -109,6 +109,16 @@ def remainder(row, steps, width):
     return row
 
 
+def zero_ahead(rows, width):
+    """What generates all elements of the module of some rows that are 0 in the first column."""
+    pool = without_zeros(rows)
+    index = least_row(pool, 0)
+    if index is None:
+        return pool
+    row = with_power(pool[index], 0, width)
+    return cleared(pool[:index] + pool[index + 1:], row, 0, width)
+
+
 def tails(rows, lead, width):
     """The echelon of what the elements that are 0 in the first columns have behind these."""
     return [row[lead:] for row in echelon_rows(rows, width) if not any(row[:lead])]

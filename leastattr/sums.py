@@ -1,11 +1,19 @@
 """Forms and sums: what they are, and their values modulo a power of two."""
 
-from leastattr.checks import is_between, is_integer, is_integers, is_tuple
+from leastattr.checks import is_between, is_integer, is_integers, is_sequence, is_tuple
 
 
 def is_form(thing, many):
     """Whether a value is a form over so many numbers."""
     return is_integers(thing, many + 1)
+
+
+def wrong_answers(thing, many, most):
+    """None for a list or tuple of 1 to so many forms; otherwise the index of the first that is none, or -1."""
+    if not is_sequence(thing, 1, most):
+        return -1
+    wrong = [index for index, item in enumerate(thing) if not is_form(item, many)]
+    return wrong[0] if wrong else None
 
 
 def is_sum(thing, sizes, numbers, most):

@@ -2,6 +2,7 @@
 
 import random
 
+from leastattr.codes import Code
 from leastattr.errors import NoKind
 from leastattr.grammars import Grammar
 
@@ -63,6 +64,89 @@ def mixed_grammar(width=8):
     ], "b", [(1, 2), (-1, 3)])
 
 
+def lists_grammar(answer=(0, 0, 1)):
+    """The grammar `lists` of stage 9, with another answer if one is told."""
+    return Grammar(8, [("list", ("len", "sum"))], [
+        ("nil", "list", (), 0, ((), ())),
+        ("cons", "list", ("list",), 1, (((1, (0,), -1), (1, (-1,), -1)), ((1, (1,), -1), (1, (-1,), 0)))),
+    ], "list", [answer])
+
+
+def once_grammar():
+    """The grammar `once` of stage 8, which answers 2 a for a leaf with the number a."""
+    return Grammar(8, [("x", ("a",))], [("leaf", "x", (), 1, (((1, (), 0),),))], "x", [(0, 2)])
+
+
+def twice_code():
+    """The code `twice` of stage 8, right for `once`, whose register is 2 a."""
+    return Code(8, [1], [(0, (), 1, (((2, (), 0),),))], 0, [(0, 1)])
+
+
+def both_grammar():
+    """The grammar `both` of stage 8, which answers 2 a b."""
+    return Grammar(2, [("bit", ("a",)), ("pair", ("p",))], [
+        ("zero", "bit", (), 0, ((),)),
+        ("one", "bit", (), 0, (((1, (), -1),),)),
+        ("times", "pair", ("bit", "bit"), 0, (((2, (0, 0), -1),),)),
+    ], "pair", [(0, 1)])
+
+
+def sums_code():
+    """The code over `sums` of point 40, with one register for each kind."""
+    return Code(8, [1, 1], [
+        (0, (), 1, (((1, (), 0),),)),
+        (1, (), 0, ((),)),
+        (1, (1, 0), 0, (((1, (0, -1), -1), (1, (-1, 0), -1), (2, (-1, -1), -1)),)),
+    ], 1, [(0, 1)])
+
+
+def bare_grammar(width=8):
+    """Kinds without trees and without contexts.
+
+    top has trees, none has not, lone has trees and no context to top; pair needs a tree of none, and so does back.
+    """
+    return Grammar(width, [("top", ("x",)), ("none", ("y", "z")), ("lone", ("u",))], [
+        ("leaf", "top", (), 1, (((1, (), 0),),)),
+        ("pair", "top", ("none", "top"), 0, (((1, (0, 0), -1), (3, (1, -1), -1)),)),
+        ("back", "none", ("none",), 0, (((1, (0,), -1),), ((1, (1,), -1), (1, (-1,), -1)))),
+        ("twin", "none", ("none", "top"), 0, (((1, (0, 0), -1),), ())),
+        ("only", "lone", (), 2, (((1, (), 0), (2, (), 1)),)),
+        ("wrap", "lone", ("top",), 0, (((5, (0,), -1),),)),
+        ("void", "lone", ("none", "none"), 0, (((5, (0, 1), -1),),)),
+    ], "top", [(7, 1)])
+
+
+DOUBLING_NODES = 2 ** 15 - 1
+
+
+def doubling_grammar(width=1):
+    """Fifteen attributes, each of which is 1 only for a tree of two equal trees with a 1 in the one before.
+
+    So the smallest tree whose last attribute, z of e, is not 0 has 2 ** 15 - 1 nodes.
+    """
+    names = "abcde"
+    rules = [("leaf", "a", (), 0, (((1, (), -1),), (), ()))]
+    for name in names:
+        rules.append(("on" + name, name, (name, name), 0, ((), ((1, (0, 0), -1),), ((1, (1, 1), -1),))))
+    for name, later in zip(names, names[1:]):
+        rules.append(("to" + later, later, (name, name), 0, (((1, (2, 2), -1),), (), ())))
+    return Grammar(width, [(name, ("x", "y", "z")) for name in names], rules, "e", [(0, 0, 0, 1)])
+
+
+def doubled_leaves(many):
+    """A tree of `nodes` with so many steps, each join with the step before it as both of its children."""
+    return [("leaf", (), ())] + [("join", (place, place), ()) for place in range(many - 1)]
+
+
+def changed(thing, path, new):
+    """A nested tuple with another value at a path of indexes."""
+    if not path:
+        return new
+    items = list(thing)
+    items[path[0]] = changed(items[path[0]], path[1:], new)
+    return tuple(items)
+
+
 class Things:
     """A class that is none of the interface."""
 
@@ -81,7 +165,7 @@ def odd_values():
         b"", b"leaf", bytearray(b"leaf"), memoryview(b"leaf"), [], (), {}, [None], (None,), {"leaf": 1}, ["leaf"],
         ("leaf",), set(), {"leaf"}, frozenset(), range(0), range(3), slice(1), object(), Things(), Things, int, len,
         Ellipsis, NotImplemented, iter([]), iter(()), zip(), map(len, []), (x for x in ()), itself(), (itself(),),
-        Exception("leaf"), NoKind("leaf"), sums_grammar(), [[]], ((),), [()], "0", "1",
+        Exception("leaf"), NoKind("leaf"), sums_grammar(), twice_code(), Grammar, Code, [[]], ((),), [()], "0", "1",
     ]
 
 
@@ -141,3 +225,21 @@ def holders(steps):
         if len(step) == 2 or any(place in found for place in step[1]):
             found.append(at)
     return found
+
+
+def nodes_of(steps):
+    """How many nodes a tree or context has written out, straight from points 9 and 11; a hole is none."""
+    counts = []
+    for step in steps:
+        counts.append(0 if len(step) == 2 else 1 + sum(counts[place] for place in step[1]))
+    return counts[-1]
+
+
+def are_tidy(steps):
+    """Whether steps are a list without two equal ones and without any that the root does not use (point 4)."""
+    used = [len(steps) - 1]
+    for place in used:
+        if len(steps[place]) == 3:
+            used += sorted(set(steps[place][1]) - set(used))
+    plain = all(type(step) is tuple and (len(step) == 2 or type(step[1]) is type(step[2]) is tuple) for step in steps)
+    return type(steps) is list and plain and len(set(steps)) == len(steps) == len(used)

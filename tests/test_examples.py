@@ -48,6 +48,56 @@ SESSIONS = [
     >>> [smith(4, [(2, 8), (2, 0)]), smith(4, [(8, 0), (0, 8)])]
     [[1, 3], [3, 3]]
     ''',
+    '''
+    >>> from leastattr.grammars import Grammar
+    >>> from leastattr.behaviours import least_numbers
+    >>> sums = Grammar(8, [("leaf", ("n",)), ("row", ("size", "total"))], [("one", "leaf", (), 1, (((1, (), 0),),)), ("nil", "row", (), 0, ((), ())), ("put", "row", ("row", "leaf"), 0, (((1, (0, -1), -1), (1, (-1, -1), -1)), ((1, (1, -1), -1), (1, (-1, 0), -1))))], "row", [(0, 2, 1)])
+    >>> least_numbers(sums)
+    [1, 1]
+    ''',
+    '''
+    >>> from leastattr.grammars import Grammar
+    >>> from leastattr.hulls import hull, is_spanning, relations
+    >>> nodes = Grammar(8, [("t", ("n", "m"))], [("leaf", "t", (), 0, (((1, (), -1),), ((1, (), -1),))), ("join", "t", ("t", "t"), 0, (((1, (0, -1), -1), (1, (-1, 0), -1), (1, (-1, -1), -1)), ((1, (1, -1), -1), (1, (-1, 1), -1))))], "t", [(0, 1, 0)])
+    >>> [hull(nodes, "t"), relations(nodes, "t"), is_spanning(nodes, "t", [[("leaf", (), ())]])]
+    [((1, 1), [(2, 1), (0, 128)]), [(1, 1, 254)], False]
+    ''',
+    '''
+    >>> from leastattr.grammars import Grammar
+    >>> from leastattr.hulls import nonzero
+    >>> from leastattr.trees import count_nodes
+    >>> nodes = Grammar(8, [("t", ("n", "m"))], [("leaf", "t", (), 0, (((1, (), -1),), ((1, (), -1),))), ("join", "t", ("t", "t"), 0, (((1, (0, -1), -1), (1, (-1, 0), -1), (1, (-1, -1), -1)), ((1, (1, -1), -1), (1, (-1, 1), -1))))], "t", [(0, 1, 0)])
+    >>> [nonzero(nodes, "t", (1, 1, 254)), count_nodes(nodes, nonzero(nodes, "t", (0, 1, 255)))]
+    [None, 3]
+    ''',
+    '''
+    >>> from leastattr.grammars import Grammar
+    >>> from leastattr.wants import is_wanted, told_apart, wanted
+    >>> nodes = Grammar(8, [("t", ("n", "m"))], [("leaf", "t", (), 0, (((1, (), -1),), ((1, (), -1),))), ("join", "t", ("t", "t"), 0, (((1, (0, -1), -1), (1, (-1, 0), -1), (1, (-1, -1), -1)), ((1, (1, -1), -1), (1, (-1, 1), -1))))], "t", [(0, 1, 0)])
+    >>> [wanted(nodes, "t"), is_wanted(nodes, "t", (7, 4, 0)), told_apart(nodes, "t", (1, 1), (1, 2)), told_apart(nodes, "t", (1, 1), (2, 1))]
+    [[(1, 0)], True, None, ([('', 't')], 0)]
+    ''',
+    '''
+    >>> from leastattr.grammars import Grammar
+    >>> from leastattr.hulls import hull, spanning_trees
+    >>> from leastattr.wants import is_spanning_contexts, wanted
+    >>> places = Grammar(8, [("t", ("n", "s", "p"))], [("leaf", "t", (), 1, (((1, (), -1),), ((1, (), 0),), ())), ("join", "t", ("t", "t"), 0, (((1, (0, -1), -1), (1, (-1, 0), -1)), ((1, (1, -1), -1), (1, (-1, 1), -1)), ((1, (2, -1), -1), (1, (-1, 2), -1), (1, (0, 1), -1))))], "t", [(0, 0, 0, 1)])
+    >>> [hull(places, "t"), len(spanning_trees(places, "t")), wanted(places, "t"), is_spanning_contexts(places, "t", [([("", "t")], 0)])]
+    [((0, 0, 0), [(1, 0, 0), (0, 1, 0), (0, 0, 1)]), 4, [(1, 0, 0), (0, 1, 0), (0, 0, 1)], False]
+    ''',
+    '''
+    >>> from leastattr.grammars import Grammar
+    >>> from leastattr.hulls import hull
+    >>> hull(Grammar(8, [("t", ("n",))], [("up", "t", ("t",), 0, (((1, (0,), -1),),))], "t", [(0, 1)]), "t") is None
+    True
+    ''',
+    '''
+    >>> from leastattr.grammars import Grammar
+    >>> from leastattr.hulls import nonzero
+    >>> nodes = Grammar(8, [("t", ("n", "m"))], [("leaf", "t", (), 0, (((1, (), -1),), ((1, (), -1),))), ("join", "t", ("t", "t"), 0, (((1, (0, -1), -1), (1, (-1, 0), -1), (1, (-1, -1), -1)), ((1, (1, -1), -1), (1, (-1, 1), -1))))], "t", [(0, 1, 0)])
+    >>> nonzero(nodes, "t", (1, True, 0))
+    raises NoForm(1)
+    ''',
 ]
 
 

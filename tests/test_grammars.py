@@ -5,18 +5,10 @@ import unittest
 
 from leastattr.errors import AttrError, NoGrammar
 from leastattr.grammars import Grammar
-from samples import SUMS_ANSWERS, SUMS_KINDS, SUMS_RULES, no_integers, nodes_grammar, odd_values, sums_grammar
+from samples import (SUMS_ANSWERS, SUMS_KINDS, SUMS_RULES, changed, no_integers, nodes_grammar, odd_values,
+                     sums_grammar)
 
 PUT = SUMS_RULES[2]
-
-
-def changed(thing, path, new):
-    """A nested tuple with another value at a path of indexes."""
-    if not path:
-        return new
-    items = list(thing)
-    items[path[0]] = changed(items[path[0]], path[1:], new)
-    return tuple(items)
 
 
 def plain(many=1, answers=((0, 1),)):

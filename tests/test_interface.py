@@ -3,7 +3,7 @@
 import inspect
 import unittest
 
-from leastattr import errors, grammars, modules, trees
+from leastattr import behaviours, codes, errors, grammars, hulls, modules, trees, wants
 
 ROWS = [
     (grammars, "Grammar", ["width", "kinds", "rules", "top", "answers"]),
@@ -23,6 +23,26 @@ ROWS = [
     (modules, "generators", ["width", "size", "rows"]),
     (modules, "picked", ["width", "size", "rows"]),
     (modules, "smith", ["width", "table"]),
+    (hulls, "hull", ["grammar", "kind"]),
+    (hulls, "all_hulls", ["grammar"]),
+    (hulls, "relations", ["grammar", "kind"]),
+    (hulls, "nonzero", ["grammar", "kind", "form"]),
+    (hulls, "spanning_trees", ["grammar", "kind"]),
+    (hulls, "is_spanning", ["grammar", "kind", "trees"]),
+    (wants, "wanted", ["grammar", "kind"]),
+    (wants, "all_wanted", ["grammar"]),
+    (wants, "is_wanted", ["grammar", "kind", "form"]),
+    (wants, "spanning_contexts", ["grammar", "kind"]),
+    (wants, "is_spanning_contexts", ["grammar", "kind", "pairs"]),
+    (wants, "told_apart", ["grammar", "kind", "one", "other"]),
+    (behaviours, "least", ["grammar", "kind"]),
+    (behaviours, "least_numbers", ["grammar"]),
+    (behaviours, "table", ["grammar", "kind", "paper"]),
+    (behaviours, "shown", ["grammar", "kind", "paper"]),
+    (behaviours, "paper", ["grammar", "kind"]),
+    (codes, "Code", ["width", "counts", "rules", "top", "answers"]),
+    (codes, "registers", ["grammar", "code", "tree"]),
+    (codes, "code_answers", ["grammar", "code", "tree"]),
     (errors, "NoGrammar", ["part", "index"]),
     (errors, "NoRows", ["part", "index"]),
     (errors, "NoTree", ["index"]),

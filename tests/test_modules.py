@@ -7,27 +7,8 @@ import unittest
 
 from leastattr.errors import NoRows
 from leastattr.modules import coefficients, count, echelon, generators, is_in, kernel, meet, picked, smith
+from brute import all_rows, elements_of, product
 from samples import no_integers, odd_values
-
-
-def elements_of(width, size, rows):
-    """The set of all elements of a module."""
-    modulus = 2 ** width
-    found = {(0,) * size}
-    for row in rows:
-        multiples = {tuple(factor * number % modulus for number in row) for factor in range(modulus)}
-        found = {tuple((a + b) % modulus for a, b in zip(one, other)) for one in found for other in multiples}
-    return found
-
-
-def all_rows(width, size):
-    """All rows of a size."""
-    return itertools.product(range(2 ** width), repeat=size)
-
-
-def product(width, one, other):
-    """The product of two rows."""
-    return sum(a * b for a, b in zip(one, other)) % 2 ** width
 
 
 def sum_of(width, size, factors, rows):

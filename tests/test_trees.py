@@ -6,8 +6,8 @@ import unittest
 from leastattr.errors import NotTop, NoTree
 from leastattr.grammars import Grammar
 from leastattr.trees import answers_of, count_nodes, kind_of, value
-from samples import (FIVE, mixed_grammar, no_integers, nodes_grammar, odd_values, places_grammar, random_tree,
-                     sums_grammar)
+from samples import (FIVE, doubled_leaves, mixed_grammar, no_integers, nodes_grammar, odd_values, places_grammar,
+                     random_tree, sums_grammar)
 
 ALL_FOUR = [value, kind_of, count_nodes, answers_of]
 
@@ -38,11 +38,6 @@ def state_in(grammar, node):
             total += product
         state.append(total % 2 ** grammar.width)
     return tuple(state)
-
-
-def doubled(many):
-    """A tree of `nodes` with so many steps, each join with the step before it as both of its children."""
-    return [("leaf", (), ())] + [("join", (place, place), ()) for place in range(many - 1)]
 
 
 class TreeCase(unittest.TestCase):
@@ -120,7 +115,7 @@ class ValuesTest(TreeCase):
 class LargeTreesTest(TreeCase):
 
     def test_2000_steps_that_double(self):
-        tree = doubled(2000)
+        tree = doubled_leaves(2000)
         self.assertEqual(count_nodes(nodes_grammar(), tree), 2 ** 2000 - 1)
         self.assertEqual(value(nodes_grammar(64), tree), (2 ** 64 - 1, 0))
         self.assertEqual(kind_of(nodes_grammar(), tree), "t")
@@ -137,11 +132,11 @@ class LargeTreesTest(TreeCase):
         self.assertEqual(count_nodes(places_grammar(), steps), 2 * leaves[-1] - 1)
 
     def test_2001_steps_are_no_tree(self):
-        self.fails(-1, nodes_grammar(), doubled(2001))
+        self.fails(-1, nodes_grammar(), doubled_leaves(2001))
         self.fails(-1, nodes_grammar(), [None] * 2001)
 
     def test_the_last_of_2000_steps_may_be_wrong(self):
-        self.fails(1999, nodes_grammar(), doubled(1999) + [("join", (1999, 0), ())])
+        self.fails(1999, nodes_grammar(), doubled_leaves(1999) + [("join", (1999, 0), ())])
 
 
 class WrongTreesTest(TreeCase):
