@@ -2,7 +2,8 @@
 
 from heapq import heappop, heappush
 
-from leastattr.spans import Span
+from leastattr.modules import chosen_indexes
+from leastattr.spans import empty_span
 from leastattr.sums import form_value
 
 
@@ -23,13 +24,18 @@ class Growth:
     A rule is affine in each child, so the attributes of any tree are in the hull of those that its rule makes of
     kept trees in the place of its children, and these can be taken with no more nodes. So the kept trees of at
     most so many nodes have the hull of all trees of at most so many nodes.
+
+    If few trees are enough, those that are not needed for the hulls any more are let go, and the kept ones may then
+    have more nodes than is needed. Spans may be told that begin with what makes no difference.
     """
 
-    def __init__(self, system):
+    def __init__(self, system, few=False, spans=None):
         self.system = system
+        self.few = few
+        self.is_exact = True
         self.found = []
         self.of_kind = [[] for _ in system.sizes]
-        self.spans = [Span(size + 1, system.width) for size in system.sizes]
+        self.spans = spans or [empty_span(size + 1, system.width) for size in system.sizes]
         self.offers = []
         self.queue = []
         for at, rule in enumerate(system.rules):
@@ -46,9 +52,18 @@ class Growth:
                 place = len(self.found)
                 self.found.append(tree)
                 self.of_kind[kind].append(place)
+                if self.few:
+                    self.let_go(kind)
                 self.offer_around(place, kind)
                 return place
         return None
+
+    def let_go(self, kind):
+        """Lets go of the trees of a kind that are not needed for its hull, if they are more than it may need."""
+        if len(self.of_kind[kind]) > self.system.sizes[kind] + 1:
+            chosen = chosen_indexes(with_ones(self.states(kind)), self.system.width)
+            self.of_kind[kind] = [self.of_kind[kind][index] for index in chosen]
+            self.is_exact = False
 
     def finish(self):
         """Goes through all trees that are left."""
@@ -94,14 +109,13 @@ class Growth:
                 self.offers.append(Found(at, children, numbers, nodes, state))
 
 
-def first_nonzero(growth, kind, forms):
-    """The place of a tree of a kind with the fewest nodes at which some form is not 0, None if there is none."""
-    width = growth.system.width
-    place = growth.next_tree()
-    while place is not None:
-        tree = growth.found[place]
-        if growth.system.rules[tree.rule].kind == kind:
-            if any([form_value(form, tree.state, width) != 0 for form in forms]):
-                return place
-        place = growth.next_tree()
-    return None
+def grown(system):
+    """What has gone through all trees of a system, and has kept few."""
+    growth = Growth(system, few=True)
+    growth.finish()
+    return growth
+
+
+def with_ones(states):
+    """Tuples of attributes as rows with a 1 ahead: sums of multiples of these with a 1 ahead are the hull."""
+    return [[1] + list(state) for state in states]

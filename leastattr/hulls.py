@@ -4,12 +4,12 @@ from leastattr.building import tree_steps
 from leastattr.checks import first_wrong
 from leastattr.errors import NoForm, NoTree
 from leastattr.grammars import kind_place
-from leastattr.growth import Growth, first_nonzero
+from leastattr.growth import grown, with_ones
 from leastattr.modules import as_tuples, chosen_indexes, kernel
 from leastattr.reduction import echelon_rows, lessened, remainder
+from leastattr.smallest import smallest_nonzero
 from leastattr.steps import checked_tree, root_state
 from leastattr.sums import reduced
-from leastattr.surroundings import grown
 from leastattr.systems import grammar_system
 
 
@@ -38,11 +38,7 @@ def nonzero(grammar, kind, form):
     wrong = first_wrong(form, attributes_at(grammar, place) + 1)
     if wrong is not None:
         raise NoForm(wrong)
-    growth = Growth(grammar_system(grammar))
-    found = first_nonzero(growth, place, [reduced(form, grammar.width)])
-    if found is None:
-        return None
-    return tree_steps(grammar, growth.found, found)
+    return smallest_nonzero(grammar, grammar_system(grammar), place, [reduced(form, grammar.width)])
 
 
 def spanning_trees(grammar, kind):
@@ -80,11 +76,6 @@ def hull_of(states, width):
 def differences(states, width):
     """The rows of what later tuples of attributes have more than the first one."""
     return [lessened(list(state), 1, states[0], width) for state in states[1:]]
-
-
-def with_ones(states):
-    """Tuples of attributes as rows with a 1 ahead: sums of multiples of these with a 1 ahead are the hull."""
-    return [[1] + list(state) for state in states]
 
 
 def state_of_tree(grammar, kind, thing):

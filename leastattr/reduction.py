@@ -110,7 +110,7 @@ def remainder(row, steps, width):
 
 
 def zero_ahead(rows, width):
-    """What generates all elements of the module of some rows that are 0 in the first column."""
+    """Rows that generate what of the module of some rows is 0 in the first column."""
     pool = without_zeros(rows)
     index = least_row(pool, 0)
     if index is None:

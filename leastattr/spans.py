@@ -4,11 +4,14 @@ from leastattr.reduction import unit_row, zero_ahead
 
 
 class Span:
-    """A module that grows; a row is outside of it exactly if one of some rows has a product with it that is not 0."""
+    """A module that grows; a row is outside of it exactly if one of some rows has a product with it that is not 0.
 
-    def __init__(self, size, width):
+    It begins with all rows whose product with each of the bounds is 0.
+    """
+
+    def __init__(self, bounds, width):
         self.width = width
-        self.bounds = [unit_row(size, place) for place in range(size)]
+        self.bounds = bounds
 
     def is_all(self):
         """Whether no row is outside any more."""
@@ -26,6 +29,11 @@ class Span:
         carrying = [[worth] + bound for worth, bound in zip(worths, self.bounds)]
         self.bounds = [left[1:] for left in zero_ahead(carrying, self.width)]
         return True
+
+
+def empty_span(size, width):
+    """A module that begins with the row of zeros alone."""
+    return Span([unit_row(size, place) for place in range(size)], width)
 
 
 def product_of(one, other, width):

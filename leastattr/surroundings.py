@@ -2,8 +2,8 @@
 
 from heapq import heappop, heappush
 
-from leastattr.growth import Growth
-from leastattr.spans import Span
+from leastattr.growth import grown
+from leastattr.spans import empty_span
 from leastattr.systems import grammar_system
 
 
@@ -43,14 +43,15 @@ class Surroundings:
     """Goes through contexts by how many nodes they have, and keeps those that ask for more than those kept before.
 
     growth has gone through all trees. The linear part of an answer is a sum of multiples of what kept contexts ask
-    through a step with a kept tree beside the hole, and these can be taken with no more nodes, as in Growth.
+    through a step with a kept tree beside the hole, and these can be taken with no more nodes, as in Growth, unless
+    it has let go of trees.
     """
 
     def __init__(self, growth, top, answers):
         self.system = growth.system
         self.found = []
         self.of_kind = [[] for _ in self.system.sizes]
-        self.spans = [Span(size, self.system.width) for size in self.system.sizes]
+        self.spans = [empty_span(size, self.system.width) for size in self.system.sizes]
         self.ways = [[] for _ in self.system.sizes]
         for at in range(len(self.system.rules)):
             self.add_ways(growth, at)
@@ -122,13 +123,6 @@ def asked_through(row, forms, width):
     for factor, form in zip(row, forms):
         total = [number + factor * more for number, more in zip(total, form[1:])]
     return tuple([number % (1 << width) for number in total])
-
-
-def grown(system):
-    """What has gone through all trees of a system."""
-    growth = Growth(system)
-    growth.finish()
-    return growth
 
 
 def surrounded(grammar, growth):

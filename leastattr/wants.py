@@ -4,12 +4,13 @@ from leastattr.building import context_steps
 from leastattr.checks import first_wrong, is_between, is_tuple
 from leastattr.errors import NoContext, NoForm, NoState
 from leastattr.grammars import kind_place
+from leastattr.growth import Growth
 from leastattr.hulls import attributes_at
 from leastattr.modules import as_tuples, chosen_indexes
 from leastattr.reduction import echelon_rows, remainder
 from leastattr.spans import product_of
 from leastattr.sums import reduced
-from leastattr.surroundings import asked_through, explored, grown, surrounded
+from leastattr.surroundings import asked_through, explored, surrounded
 from leastattr.systems import grammar_system
 from leastattr.trees import context_map, kinds_of_context
 
@@ -65,7 +66,8 @@ def told_apart(grammar, kind, one, other):
         if wrong is not None:
             raise NoState(wrong)
     gap = [number - less for number, less in zip(one, other)]
-    growth = grown(grammar_system(grammar))
+    growth = Growth(grammar_system(grammar))
+    growth.finish()
     surroundings = surrounded(grammar, growth)
     found = surroundings.next_context()
     while found is not None:

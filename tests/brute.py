@@ -215,6 +215,18 @@ def changed_code(code, seed):
     return Code(code.width, code.counts, [tuple(rule) for rule in rules], code.top, answers)
 
 
+def padded_code(code, extra, seed, most=4):
+    """A code that answers as another one, with more registers behind those of each kind, reckoned by any sums."""
+    dice = random.Random(seed)
+    counts = [many + extra for many in code.counts]
+    rules = []
+    for kind, children, numbers, values in code.rules:
+        sizes = [counts[child] for child in children]
+        more = tuple(small_sum(dice, code.width, sizes, numbers, most) for _ in range(extra))
+        rules.append((kind, children, numbers, values + more))
+    return Code(code.width, counts, rules, code.top, [answer + (0,) * extra for answer in code.answers])
+
+
 def random_code(grammar, seed, most=2):
     """A code over a grammar with few registers and any sums."""
     dice = random.Random(seed)

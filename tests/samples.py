@@ -100,6 +100,29 @@ def sums_code():
     ], 1, [(0, 1)])
 
 
+def codes_not_over_sums():
+    """Tuples (rule, code): codes that do not stand over `sums`, and the rule that is told of them."""
+    one, nil, put = sums_code().rules
+    rules = [one, nil, put]
+    found = [
+        (-1, Code(9, [1, 1], rules, 1, [(0, 1)])),
+        (-1, Code(8, [1, 1, 1], rules, 1, [(0, 1)])),
+        (-1, Code(8, [1, 1], rules[:2], 1, [(0, 1)])),
+        (-1, Code(8, [1, 1], rules + rules[:1], 1, [(0, 1)])),
+        (-1, Code(8, [1, 1], rules, 1, [(0, 1), (0, 1)])),
+        (-1, Code(8, [1, 1], rules, 0, [(0, 1)])),
+        (-1, Code(8, [1, 1], [nil, put, one], 0, [(0, 1)])),
+        (1, Code(8, [1, 1], [one, put, nil], 1, [(0, 1)])),
+        (0, Code(8, [1, 1], [nil, put, one], 1, [(0, 1)])),
+    ]
+    for at, rule in ((0, (1, (), 1, ((),))), (0, (0, (0,), 1, ((),))), (0, (0, (), 0, ((),))),
+                     (1, (0, (), 0, ((),))), (1, (1, (), 1, ((),))), (2, (1, (0, 1), 0, ((),))),
+                     (2, (1, (1, 1), 0, ((),))), (2, (1, (1,), 0, ((),))), (2, (0, (1, 0), 0, ((),))),
+                     (2, (1, (1, 0), 2, ((),)))):
+        found.append((at, Code(8, [1, 1], rules[:at] + [rule] + rules[at + 1:], 1, [(0, 1)])))
+    return found
+
+
 def bare_grammar(width=8):
     """Kinds without trees and without contexts.
 
@@ -131,6 +154,24 @@ def doubling_grammar(width=1):
     for name, later in zip(names, names[1:]):
         rules.append(("to" + later, later, (name, name), 0, (((1, (2, 2), -1),), (), ())))
     return Grammar(width, [(name, ("x", "y", "z")) for name in names], rules, "e", [(0, 0, 0, 1)])
+
+
+def late_grammar():
+    """A grammar whose smallest tree with an answer other than 0 has 10 nodes, with a child of which x is 4.
+
+    The trees of kind a with x 2 and 1 make this child needless for the hull, but have more nodes; and all of them
+    have fewer nodes than the only tree of kind b.
+    """
+    return Grammar(3, [("a", ("x",)), ("b", ("y",)), ("c", ("u",)), ("d", ("v",)), ("t", ("z",))], [
+        ("leaf", "c", (), 0, (((1, (), -1),),)),
+        ("zero", "a", (), 0, ((),)),
+        ("four", "a", ("c",), 0, (((4, (0,), -1),),)),
+        ("two", "a", ("c", "c"), 0, (((2, (0, -1), -1),),)),
+        ("wide", "d", ("c", "c"), 0, (((1, (0, 0), -1),),)),
+        ("one", "a", ("c", "d"), 0, (((1, (0, 0), -1),),)),
+        ("wider", "b", ("d", "d"), 0, (((1, (0, 0), -1),),)),
+        ("pair", "t", ("a", "b"), 0, (((1, (0, 0), -1),),)),
+    ], "t", [(0, 1)])
 
 
 def doubled_leaves(many):

@@ -9,8 +9,8 @@ from leastattr.errors import AttrError, NoCode, NoTree, NotOver, NotTop
 from leastattr.grammars import Grammar
 from leastattr.trees import answers_of, value
 from brute import copying_code, form_at, plain_rules, random_code, small_grammar, small_sum, sums_at, trees_of
-from samples import (FIVE, bare_grammar, changed, doubled_leaves, mixed_grammar, no_integers, nodes_grammar,
-                     odd_values, random_tree, sums_code, sums_grammar)
+from samples import (FIVE, bare_grammar, changed, codes_not_over_sums, doubled_leaves, mixed_grammar, no_integers,
+                     nodes_grammar, odd_values, random_tree, sums_code, sums_grammar)
 
 COUNTS = [1, 2]
 RULES = [
@@ -332,30 +332,9 @@ class NotOverTest(unittest.TestCase):
             if not isinstance(thing, Code):
                 self.fails(-1, thing)
 
-    def test_each_of_the_five_things(self):
-        rules = sums_code().rules
-        self.fails(-1, Code(9, [1, 1], rules, 1, [(0, 1)]))
-        self.fails(-1, Code(8, [1, 1, 1], rules, 1, [(0, 1)]))
-        self.fails(-1, Code(8, [1, 1], rules[:2], 1, [(0, 1)]))
-        self.fails(-1, Code(8, [1, 1], rules + rules[:1], 1, [(0, 1)]))
-        self.fails(-1, Code(8, [1, 1], rules, 1, [(0, 1), (0, 1)]))
-        self.fails(-1, Code(8, [1, 1], rules, 0, [(0, 1)]))
-
-    def test_the_first_rule_that_differs(self):
-        one, nil, put = sums_code().rules
-        for at, rule in ((0, (1, (), 1, ((),))), (0, (0, (0,), 1, ((),))), (0, (0, (), 0, ((),))),
-                         (1, (0, (), 0, ((),))), (1, (1, (), 1, ((),))), (2, (1, (0, 1), 0, ((),))),
-                         (2, (1, (1, 1), 0, ((),))), (2, (1, (1,), 0, ((),))), (2, (0, (1, 0), 0, ((),))),
-                         (2, (1, (1, 0), 2, ((),)))):
-            rules = [one, nil, put]
-            rules[at] = rule
-            self.fails(at, Code(8, [1, 1], rules, 1, [(0, 1)]))
-        self.fails(1, Code(8, [1, 1], [one, put, nil], 1, [(0, 1)]))
-        self.fails(0, Code(8, [1, 1], [nil, put, one], 1, [(0, 1)]))
-
-    def test_the_five_things_come_before_the_rules(self):
-        one, nil, put = sums_code().rules
-        self.fails(-1, Code(8, [1, 1], [nil, put, one], 0, [(0, 1)]))
+    def test_what_differs_first(self):
+        for rule, code in codes_not_over_sums():
+            self.fails(rule, code)
 
     def test_names_and_sums_may_differ(self):
         kinds = [("rows", ("a", "b")), ("leafs", ("c", "d", "e"))]

@@ -98,6 +98,61 @@ SESSIONS = [
     >>> nonzero(nodes, "t", (1, True, 0))
     raises NoForm(1)
     ''',
+    '''
+    >>> from leastattr.grammars import Grammar
+    >>> from leastattr.codes import Code
+    >>> from leastattr.judging import judge
+    >>> sums = Grammar(8, [("leaf", ("n",)), ("row", ("size", "total"))], [("one", "leaf", (), 1, (((1, (), 0),),)), ("nil", "row", (), 0, ((), ())), ("put", "row", ("row", "leaf"), 0, (((1, (0, -1), -1), (1, (-1, -1), -1)), ((1, (1, -1), -1), (1, (-1, 0), -1))))], "row", [(0, 2, 1)])
+    >>> code = Code(8, [1, 1], [(0, (), 1, (((1, (), 0),),)), (1, (), 0, ((),)), (1, (1, 0), 0, (((1, (0, -1), -1), (1, (-1, 0), -1), (2, (-1, -1), -1)),))], 1, [(0, 1)])
+    >>> judge(sums, code) is None
+    True
+    ''',
+    '''
+    >>> from leastattr.compiling import compiled
+    >>> from leastattr.grammars import Grammar
+    >>> rules = [("zero", "bit", (), 0, ((),)), ("one", "bit", (), 0, (((1, (), -1),),)), ("times", "pair", ("bit", "bit"), 0, (((2, (0, 0), -1),),))]
+    >>> both = Grammar(2, [("bit", ("a",)), ("pair", ("p",))], rules, "pair", [(0, 1)])
+    >>> compiled(both).counts
+    (1, 1)
+    ''',
+    '''
+    >>> from leastattr.compiling import compiled
+    >>> from leastattr.codes import Code
+    >>> from leastattr.grammars import Grammar
+    >>> from leastattr.recipes import takeover
+    >>> once = Grammar(8, [("x", ("a",))], [("leaf", "x", (), 1, (((1, (), 0),),))], "x", [(0, 2)])
+    >>> twice = Code(8, [1], [(0, (), 1, (((2, (), 0),),))], 0, [(0, 1)])
+    >>> [takeover(once, twice, "x"), takeover(once, compiled(once), "x") is None]
+    [None, False]
+    ''',
+    '''
+    >>> from leastattr.codes import Code
+    >>> from leastattr.grammars import Grammar
+    >>> from leastattr.recipes import check_recipe
+    >>> once = Grammar(8, [("x", ("a",))], [("leaf", "x", (), 1, (((1, (), 0),),))], "x", [(0, 2)])
+    >>> twice = Code(8, [1], [(0, (), 1, (((2, (), 0),),))], 0, [(0, 1)])
+    >>> check_recipe(once, twice, "x", ((0, 1),)) is None
+    False
+    ''',
+    '''
+    >>> from leastattr.compiling import compiled
+    >>> from leastattr.grammars import Grammar
+    >>> from leastattr.recipes import given_back
+    >>> from leastattr.wants import wanted
+    >>> rules = [("zero", "bit", (), 0, ((),)), ("one", "bit", (), 0, (((1, (), -1),),)), ("times", "pair", ("bit", "bit"), 0, (((2, (0, 0), -1),),))]
+    >>> both = Grammar(2, [("bit", ("a",)), ("pair", ("p",))], rules, "pair", [(0, 1)])
+    >>> [wanted(both, "bit"), given_back(both, compiled(both), "bit")]
+    [[(2,)], [(1,)]]
+    ''',
+    '''
+    >>> from leastattr.grammars import Grammar
+    >>> lists = Grammar(8, [('list', ('len', 'sum'))], [('nil', 'list', (), 0, ((), ())), ('cons', 'list', ('list',), 1, (((1, (0,), -1), (1, (-1,), -1)), ((1, (1,), -1), (1, (-1,), 0))))], 'list', [(0, 0, 1)])
+    >>> odd = Grammar(8, lists.kinds, lists.rules, 'list', [(0, 0, 3)])
+    >>> from leastattr.apart import apart
+    >>> from leastattr.trees import count_nodes
+    >>> [count_nodes(lists, apart(lists, odd)), apart(lists, lists)]
+    [2, None]
+    ''',
 ]
 
 

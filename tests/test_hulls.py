@@ -10,8 +10,9 @@ from leastattr.hulls import all_hulls, hull, is_spanning, nonzero, relations, sp
 from leastattr.modules import echelon
 from leastattr.trees import kind_of, value
 from brute import all_rows, elements_of, form_at, generators_of, minus, small_grammar, trees_of
-from samples import (DOUBLING_NODES, FIVE, are_tidy, bare_grammar, doubled_leaves, doubling_grammar, mixed_grammar,
-                     no_integers, nodes_grammar, nodes_of, odd_values, places_grammar, random_tree, sums_grammar)
+from samples import (DOUBLING_NODES, FIVE, are_tidy, bare_grammar, doubled_leaves, doubling_grammar, late_grammar,
+                     mixed_grammar, no_integers, nodes_grammar, nodes_of, odd_values, places_grammar, random_tree,
+                     sums_grammar)
 
 SEEDS = range(160)
 LEAF = ("leaf", (), ())
@@ -174,6 +175,18 @@ class NonzeroTest(unittest.TestCase):
             self.assertEqual(len(steps), 15)
             self.check_tree(grammar, "c", (0, 0, 0, -1), nonzero(grammar, "c", (0, 0, 0, -1)), 2 ** 9 - 1)
 
+    def test_a_small_child_that_later_ones_make_needless(self):
+        grammar = late_grammar()
+        for form, nodes in (((0, 1), 10), ((0, 2), 11), ((0, 4), 13)):
+            self.check_tree(grammar, "t", form, nonzero(grammar, "t", form), nodes)
+        states = trees_of(grammar)[4]
+        for form in all_rows(3, 2):
+            nodes = [many for state, many in states.items() if form_at(form, state, 3)]
+            if nodes:
+                self.check_tree(grammar, "t", form, nonzero(grammar, "t", form), min(nodes))
+            else:
+                self.assertIsNone(nonzero(grammar, "t", form))
+
     def test_the_smallest_tree_may_have_the_longest_way(self):
         # Ten single steps have fewer nodes than four joins of two equal trees.
         rules = [("leaf", "t", (), 0, (((1, (), -1),), ())),
@@ -222,6 +235,16 @@ class SpanningTest(unittest.TestCase):
             self.assertIs(is_spanning(grammar, name, found), True)
             for at in range(len(found)):
                 self.assertIs(is_spanning(grammar, name, found[:at] + found[at + 1:]), False)
+
+    def test_trees_that_later_ones_make_needless(self):
+        rules = [(name, "t", (), 0, (((number, (), -1),), ())) for name, number in
+                 (("no", 0), ("eight", 8), ("four", 4), ("two", 2))]
+        for many, wish in ((1, [0]), (2, [0, 8]), (3, [0, 4]), (4, [0, 2])):
+            grammar = Grammar(4, [("t", ("x", "y"))], rules[:many], "t", [(0, 1, 0)])
+            found = sorted(value(grammar, steps)[0] for steps in spanning_trees(grammar, "t"))
+            self.assertEqual(len(found), len(wish))
+            self.assertEqual(hull(grammar, "t")[1], [(number, 0) for number in wish[1:]])
+            self.assertIs(is_spanning(grammar, "t", spanning_trees(grammar, "t")), True)
 
     def test_no_fewer_attributes_have_the_hull(self):
         for grammar, name, size, states in small_kinds():

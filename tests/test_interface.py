@@ -3,7 +3,8 @@
 import inspect
 import unittest
 
-from leastattr import behaviours, codes, errors, grammars, hulls, modules, trees, wants
+from leastattr import (apart, behaviours, codes, compiling, errors, grammars, hulls, judging, modules, recipes, trees,
+                       wants)
 
 ROWS = [
     (grammars, "Grammar", ["width", "kinds", "rules", "top", "answers"]),
@@ -43,10 +44,24 @@ ROWS = [
     (codes, "Code", ["width", "counts", "rules", "top", "answers"]),
     (codes, "registers", ["grammar", "code", "tree"]),
     (codes, "code_answers", ["grammar", "code", "tree"]),
+    (judging, "judge", ["grammar", "code"]),
+    (compiling, "compiled", ["grammar"]),
+    (recipes, "takeover", ["grammar", "code", "kind"]),
+    (recipes, "check_recipe", ["grammar", "code", "kind", "recipe"]),
+    (recipes, "given_back", ["grammar", "code", "kind"]),
+    (apart, "apart", ["one", "other"]),
     (errors, "NoGrammar", ["part", "index"]),
     (errors, "NoRows", ["part", "index"]),
     (errors, "NoTree", ["index"]),
     (errors, "NoContext", ["index"]),
+    (errors, "NoKind", ["kind"]),
+    (errors, "NotTop", ["kind"]),
+    (errors, "NoForm", ["index"]),
+    (errors, "NoState", ["index"]),
+    (errors, "NoPaper", ["part", "index"]),
+    (errors, "NoCode", ["part", "index"]),
+    (errors, "NotOver", ["rule"]),
+    (errors, "NoRecipe", ["index"]),
 ]
 
 

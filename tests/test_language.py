@@ -58,6 +58,51 @@ class LanguageTest(unittest.TestCase):
                     own = node.level == 0 and node.module.startswith("leastattr.")
                     self.assertTrue(own or node.module in LIBRARY, (path, node.lineno))
 
+    def test_no_two_files_import_from_each_other(self):
+        imported = {}
+        for path in FILES:
+            modules = [node.module for node in ast.walk(parsed(path)) if isinstance(node, ast.ImportFrom)]
+            imported["leastattr." + path.stem] = [name for name in modules if name.startswith("leastattr.")]
+        while imported:
+            free = [name for name in imported if not any(other in imported for other in imported[name])]
+            self.assertTrue(free, sorted(imported))
+            for name in free:
+                del imported[name]
+
+    def test_names_are_imported_from_the_files_that_define_them(self):
+        for path in FILES:
+            for node in ast.walk(parsed(path)):
+                if isinstance(node, ast.ImportFrom) and node.module.startswith("leastattr."):
+                    tree = parsed(FOLDER / (node.module.split(".")[1] + ".py"))
+                    own = [part.name for part in tree.body if isinstance(part, (ast.FunctionDef, ast.ClassDef))]
+                    own += [target.id for part in tree.body if isinstance(part, ast.Assign) for target in part.targets]
+                    self.assertTrue(all(name.name in own and name.asname is None for name in node.names), path)
+
+    def test_no_local_name_is_that_of_an_import_or_a_class(self):
+        for path in FILES:
+            tree = parsed(path)
+            taken = [name.name for node in tree.body if isinstance(node, ast.ImportFrom) for name in node.names]
+            taken += [node.name for node in tree.body if isinstance(node, ast.ClassDef)]
+            for node in ast.walk(tree):
+                if isinstance(node, ast.arg):
+                    self.assertNotIn(node.arg, taken, (path, node.lineno))
+                if isinstance(node, ast.Name) and isinstance(node.ctx, ast.Store):
+                    self.assertNotIn(node.id, taken, (path, node.lineno))
+
+    def test_no_generators(self):
+        # Grammar and Code have an __eq__, so any, all, sum and the like take lists (L7).
+        for path in FILES:
+            for node in ast.walk(parsed(path)):
+                self.assertNotIsInstance(node, (ast.GeneratorExp, ast.Yield, ast.YieldFrom), path)
+
+    def test_sets_and_sorting(self):
+        # No set is kept, and xs.sort() does not stand in a package in which a class has an __eq__ (L24, L25).
+        for path in FILES:
+            for node in ast.walk(parsed(path)):
+                self.assertNotIsInstance(node, (ast.Set, ast.SetComp), path)
+                if isinstance(node, ast.Attribute):
+                    self.assertNotIn(node.attr, ("sort", "format", "encode", "decode"), path)
+
     def test_plain_nodes_and_values(self):
         for path in FILES:
             for node in ast.walk(parsed(path)):
