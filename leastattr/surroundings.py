@@ -2,6 +2,7 @@
 
 from heapq import heappop, heappush
 
+from leastattr.grammars import kind_places
 from leastattr.growth import grown
 from leastattr.spans import empty_span
 from leastattr.systems import grammar_system
@@ -127,8 +128,7 @@ def asked_through(row, forms, width):
 
 def surrounded(grammar, growth):
     """What goes through the contexts of a grammar; growth has gone through all its trees."""
-    top = [name for name, _ in grammar.kinds].index(grammar.top)
-    return Surroundings(growth, top, grammar.answers)
+    return Surroundings(growth, kind_places(grammar)[grammar.top], grammar.answers)
 
 
 def explored(grammar):
