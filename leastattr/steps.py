@@ -61,7 +61,7 @@ def checked_context(grammar, context):
             kinds.append(rules[item[0]][1])
         else:
             raise NoContext(index)
-    if times_in_root(context, hole) != 1:
+    if hole == -1 or step_times(context)[hole] != 1:
         raise NoContext(-1)
     return kinds, hole
 
@@ -71,19 +71,32 @@ def is_hole(thing, kinds):
     return is_tuple(thing, 2, 2) and isinstance(thing[0], str) and thing[0] == HOLE and is_known(thing[1], kinds)
 
 
-def times_in_root(context, hole):
-    """How many times the hole at a place stands in the tree that is meant."""
-    times = []
-    for index, item in enumerate(context):
-        if index == hole:
-            times.append(1)
-        else:
-            times.append(sum([times[place] for place in item[1]]))
-    return times[-1]
+def step_times(steps):
+    """The list of how many times each step stands in the tree that is meant."""
+    times = [0] * len(steps)
+    times[-1] = 1
+    for at in range(len(steps) - 1, -1, -1):
+        if times[at] != 0 and steps[at][0] != HOLE:
+            for place in steps[at][1]:
+                times[place] += times[at]
+    return times
+
+
+def node_counts(steps):
+    """The list of how many nodes the trees have that steps stand for; a hole is no node."""
+    counts = []
+    for item in steps:
+        counts.append(0 if item[0] == HOLE else 1 + sum([counts[place] for place in item[1]]))
+    return counts
 
 
 def root_state(grammar, steps, inside):
     """The tuple of the attributes of the root of a tree, or of a context with these inside its hole."""
+    return step_states(grammar, steps, inside)[-1]
+
+
+def step_states(grammar, steps, inside):
+    """The list of the attributes of all steps of a tree, or of a context with these inside its hole."""
     rules = rule_table(grammar)
     width = grammar.width
     states = []
@@ -95,4 +108,4 @@ def root_state(grammar, steps, inside):
             numbers = reduced(item[2], width)
             values = rules[item[0]][4]
             states.append(tuple([sum_value(terms, children, numbers, width) for terms in values]))
-    return states[-1]
+    return states

@@ -1,20 +1,24 @@
 """Systems: what grammars and codes have in common, rules by the indexes of their kinds."""
 
 from leastattr.grammars import attribute_counts, kind_places
+from leastattr.reduction import unit_row
 from leastattr.sums import reduced
 
 
 class Rule:
     """A rule whose sums are told by the products of attributes and numbers that they use.
 
-    The sums of a code have many terms over few products, so each product is reckoned once for all of them.
+    The sums of a code have many terms over few products, so each product is reckoned once for all of them. choices
+    has tuples (numbers, worths): numbers that may stand at a node, and what the terms take for them, of which all
+    others are affine combinations.
     """
 
-    def __init__(self, width, kind, children, numbers, values):
+    def __init__(self, width, kind, children, numbers, values, choices):
         self.width = width
         self.kind = kind
         self.children = children
         self.numbers = numbers
+        self.choices = choices
         places = {}
         self.rows = [gathered(terms, places, width) for terms in values]
         self.products = list(places)
@@ -42,14 +46,15 @@ class Rule:
         """A list of tuples (numbers, forms): the attributes of a node as forms over those of one child.
 
         hole is the index of this child, size how many attributes it has, and children has None at its place; -1
-        and 0 if no child is left open. The rule is affine in its numbers, so that 0 for all of them and 1 for one
-        tell all.
+        and 0 if no child is left open. There is one tuple for each choice of numbers.
         """
         tables = self.open_tables(hole, size, children)
         found = []
-        for numbers, table in zip(number_choices(self.numbers), tables):
-            if found:
-                table = [add_rows(one, other) for one, other in zip(tables[0], table)]
+        for numbers, worths in self.choices:
+            table = tables[0]
+            for worth, more in zip(worths, tables[1:]):
+                if worth != 0:
+                    table = [add_rows(one, worth, other) for one, other in zip(table, more)]
             found.append((numbers, [reduced(form, self.width) for form in table]))
         return found
 
@@ -68,13 +73,16 @@ class Rule:
 
 
 class System:
-    """Kinds that are told by how many attributes they have, and rules."""
+    """Kinds that are told by how many attributes they have, and rules, with the choices of their numbers if told."""
 
-    def __init__(self, width, sizes, plain):
+    def __init__(self, width, sizes, plain, choices=None):
         self.width = width
         self.sizes = sizes
         self.plain = plain
-        self.rules = [Rule(width, kind, children, numbers, values) for kind, children, numbers, values in plain]
+        self.rules = []
+        for at, (kind, children, numbers, values) in enumerate(plain):
+            own = number_choices(numbers) if choices is None else choices[at]
+            self.rules.append(Rule(width, kind, children, numbers, values, own))
 
 
 def gathered(terms, places, width):
@@ -96,16 +104,16 @@ def picked_product(picks, children):
 
 
 def number_choices(many):
-    """The numbers 0 for all, and those with a single 1, of which all others are affine combinations."""
-    choices = [(0,) * many]
+    """The choices of numbers that terms take as they are: 0 for all, and a single 1."""
+    found = [(0,) * many]
     for place in range(many):
-        choices.append(tuple([1 if at == place else 0 for at in range(many)]))
-    return choices
+        found.append(tuple(unit_row(many, place)))
+    return [(numbers, numbers) for numbers in found]
 
 
-def add_rows(one, other):
-    """The sums of the numbers of two rows at the same places."""
-    return [number + more for number, more in zip(one, other)]
+def add_rows(one, factor, other):
+    """A row and another one times a factor, number by number."""
+    return [number + factor * more for number, more in zip(one, other)]
 
 
 def indexed_rules(grammar):

@@ -3,7 +3,7 @@
 from leastattr.errors import NotTop, WrongKind
 from leastattr.grammars import attribute_counts
 from leastattr.reduction import unit_row
-from leastattr.steps import checked_context, checked_tree, root_state
+from leastattr.steps import checked_context, checked_tree, node_counts, root_state
 from leastattr.sums import form_value, reduced
 
 
@@ -21,10 +21,7 @@ def kind_of(grammar, tree):
 def count_nodes(grammar, tree):
     """How many nodes the tree that is meant has."""
     checked_tree(grammar, tree)
-    counts = []
-    for item in tree:
-        counts.append(1 + sum([counts[place] for place in item[1]]))
-    return counts[-1]
+    return node_counts(tree)[-1]
 
 
 def answers_of(grammar, tree):

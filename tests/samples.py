@@ -72,6 +72,15 @@ def lists_grammar(answer=(0, 0, 1)):
     ], "list", [answer])
 
 
+def bits_grammar(width=6):
+    """The grammar `bits` of point 61, whose only attribute is always 0 or 1."""
+    return Grammar(width, [("b", ("x",))], [
+        ("zero", "b", (), 0, ((),)),
+        ("one", "b", (), 0, (((1, (), -1),),)),
+        ("both", "b", ("b", "b"), 0, (((1, (0, 0), -1),),)),
+    ], "b", [(0, 1)])
+
+
 def once_grammar():
     """The grammar `once` of stage 8, which answers 2 a for a leaf with the number a."""
     return Grammar(8, [("x", ("a",))], [("leaf", "x", (), 1, (((1, (), 0),),))], "x", [(0, 2)])
@@ -89,6 +98,19 @@ def both_grammar():
         ("one", "bit", (), 0, (((1, (), -1),),)),
         ("times", "pair", ("bit", "bit"), 0, (((2, (0, 0), -1),),)),
     ], "pair", [(0, 1)])
+
+
+def wide_grammar(width, seed):
+    """Five kinds of three attributes, twelve rules of up to two children, two numbers and twelve terms a sum."""
+    dice = random.Random(seed)
+    rules = []
+    for at, name in enumerate("abcdefghijkl"):
+        children = tuple(dice.choice("abcde") for _ in range(2)) if at > 4 else ()
+        values = tuple(tuple((dice.randrange(2 ** width), tuple(dice.choice((-1, 0, 1, 2)) for _ in children),
+                              dice.choice((-1, 0, 1))) for _ in range(12)) for _ in range(3))
+        rules.append(("r" + name, "abcde"[at % 5], children, 2, values))
+    answers = [tuple(dice.randrange(2 ** width) for _ in range(4)) for _ in range(4)]
+    return Grammar(width, [(name, ("x", "y", "z")) for name in "abcde"], rules, "a", answers)
 
 
 def sums_code():
@@ -213,6 +235,11 @@ def odd_values():
 def no_integers():
     """The odd values that are no integers."""
     return [thing for thing in odd_values() if not isinstance(thing, int) or isinstance(thing, bool)]
+
+
+def tree_index(thing):
+    """What NoTree and NoContext tell of an odd value that is handed in for a tree or a context."""
+    return 0 if isinstance(thing, (list, tuple)) and thing else -1
 
 
 def random_number(dice):

@@ -153,6 +153,62 @@ SESSIONS = [
     >>> [count_nodes(lists, apart(lists, odd)), apart(lists, lists)]
     [2, None]
     ''',
+    '''
+    >>> from leastattr.grammars import Grammar
+    >>> lists = Grammar(8, [('list', ('len', 'sum'))], [('nil', 'list', (), 0, ((), ())), ('cons', 'list', ('list',), 1, (((1, (0,), -1), (1, (-1,), -1)), ((1, (1,), -1), (1, (-1,), 0))))], 'list', [(0, 0, 1)])
+    >>> from leastattr.exchange import exchangeable
+    >>> nil = ('nil', (), ())
+    >>> told = exchangeable(lists, [nil, ('cons', (0,), (3,))], [nil, ('cons', (0,), (4,))])
+    >>> [told[0][-1], told[1], exchangeable(lists, [nil], [nil, ('cons', (0,), (0,))])]
+    [('', 'list'), 0, None]
+    ''',
+    '''
+    >>> from leastattr.grammars import Grammar
+    >>> lists = Grammar(8, [('list', ('len', 'sum'))], [('nil', 'list', (), 0, ((), ())), ('cons', 'list', ('list',), 1, (((1, (0,), -1), (1, (-1,), -1)), ((1, (1,), -1), (1, (-1,), 0))))], 'list', [(0, 0, 1)])
+    >>> from leastattr.exchange import groups, shortened
+    >>> nil = ('nil', (), ())
+    >>> three = [nil, ('cons', (0,), (3,))]
+    >>> groups(lists, [[nil], three, [nil, ('cons', (0,), (0,))], three])
+    [[0, 2], [1, 3]]
+    ''',
+    '''
+    >>> from leastattr.grammars import Grammar
+    >>> lists = Grammar(8, [('list', ('len', 'sum'))], [('nil', 'list', (), 0, ((), ())), ('cons', 'list', ('list',), 1, (((1, (0,), -1), (1, (-1,), -1)), ((1, (1,), -1), (1, (-1,), 0))))], 'list', [(0, 0, 1)])
+    >>> from leastattr.exchange import shortened
+    >>> shortened(lists, [('nil', (), ()), ('cons', (0,), (4,)), ('cons', (1,), (-4,)), ('cons', (2,), (7,))])
+    [('nil', (), ()), ('cons', (0,), (7,))]
+    ''',
+    '''
+    >>> from leastattr.grammars import Grammar
+    >>> lists = Grammar(8, [('list', ('len', 'sum'))], [('nil', 'list', (), 0, ((), ())), ('cons', 'list', ('list',), 1, (((1, (0,), -1), (1, (-1,), -1)), ((1, (1,), -1), (1, (-1,), 0))))], 'list', [(0, 0, 1)])
+    >>> from leastattr.splits import reached, split_grammar, split_numbers, state_of
+    >>> twos = {('cons', (0,)): 1}
+    >>> [row[:2] for row in reached(lists, twos)], split_numbers(lists, twos)
+    ([('list', 0), ('list', 1)], [('list', 0, 1), ('list', 1, 1)])
+    ''',
+    '''
+    >>> from leastattr.grammars import Grammar
+    >>> lists = Grammar(8, [('list', ('len', 'sum'))], [('nil', 'list', (), 0, ((), ())), ('cons', 'list', ('list',), 1, (((1, (0,), -1), (1, (-1,), -1)), ((1, (1,), -1), (1, (-1,), 0))))], 'list', [(0, 0, 1)])
+    >>> from leastattr.splits import split_grammar
+    >>> table, pairs = split_grammar(lists, {('cons', (0,)): 1})
+    >>> [[name for name, names in table.kinds], [rule[:3] for rule in table.rules], pairs]
+    [['pa', 'pb', 'top'], [('ra', 'pa', ()), ('rb', 'pb', ('pa',)), ('rc', 'pa', ('pb',)), ('rd', 'top', ('pa',)), ('re', 'top', ('pb',))], [('list', 0), ('list', 1)]]
+    ''',
+    '''
+    >>> from leastattr.grammars import Grammar
+    >>> from leastattr.squares import breaking, quadratics
+    >>> bits = Grammar(6, [("b", ("x",))], [("zero", "b", (), 0, ((),)), ("one", "b", (), 0, (((1, (), -1),),)), ("both", "b", ("b", "b"), 0, (((1, (0, 0), -1),),))], "b", [(0, 1)])
+    >>> [quadratics(bits, "b"), breaking(bits, "b", (0, 1, 0))[-1], breaking(bits, "b", (0, 1, -1))]
+    [[(0, 1, 63)], ('one', (), ()), None]
+    ''',
+    '''
+    >>> from leastattr.grammars import Grammar
+    >>> from leastattr.unknowns import answers_with, mattering
+    >>> sums = Grammar(8, [("leaf", ("n",)), ("row", ("size", "total"))], [("one", "leaf", (), 1, (((1, (), 0),),)), ("nil", "row", (), 0, ((), ())), ("put", "row", ("row", "leaf"), 0, (((1, (0, -1), -1), (1, (-1, -1), -1)), ((1, (1, -1), -1), (1, (-1, 0), -1))))], "row", [(0, 2, 1)])
+    >>> tree = [("nil", (), ()), ("one", (), ("x",)), ("put", (0, 1), ())]
+    >>> [answers_with(sums, tree), mattering(sums, tree)]
+    [[[(2, ()), (1, ('x',))]], ['x']]
+    ''',
 ]
 
 

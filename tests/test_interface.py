@@ -3,8 +3,8 @@
 import inspect
 import unittest
 
-from leastattr import (apart, behaviours, codes, compiling, errors, grammars, hulls, judging, modules, recipes, trees,
-                       wants)
+from leastattr import (apart, behaviours, codes, compiling, errors, exchange, grammars, hulls, judging, modules,
+                       recipes, splits, squares, trees, unknowns, wants)
 
 ROWS = [
     (grammars, "Grammar", ["width", "kinds", "rules", "top", "answers"]),
@@ -50,6 +50,21 @@ ROWS = [
     (recipes, "check_recipe", ["grammar", "code", "kind", "recipe"]),
     (recipes, "given_back", ["grammar", "code", "kind"]),
     (apart, "apart", ["one", "other"]),
+    (exchange, "exchangeable", ["grammar", "one", "other"]),
+    (exchange, "groups", ["grammar", "trees"]),
+    (exchange, "shortened", ["grammar", "tree"]),
+    (splits, "state_of", ["grammar", "automaton", "tree"]),
+    (splits, "reached", ["grammar", "automaton"]),
+    (splits, "split_numbers", ["grammar", "automaton"]),
+    (splits, "split_grammar", ["grammar", "automaton"]),
+    (squares, "quadratics", ["grammar", "kind"]),
+    (squares, "breaking", ["grammar", "kind", "form"]),
+    (unknowns, "unknowns", ["grammar", "tree"]),
+    (unknowns, "value_with", ["grammar", "tree"]),
+    (unknowns, "answers_with", ["grammar", "tree"]),
+    (unknowns, "mattering", ["grammar", "tree"]),
+    (unknowns, "put_in", ["grammar", "tree", "numbers"]),
+    (unknowns, "parted", ["grammar", "one", "other"]),
     (errors, "NoGrammar", ["part", "index"]),
     (errors, "NoRows", ["part", "index"]),
     (errors, "NoTree", ["index"]),
@@ -62,6 +77,11 @@ ROWS = [
     (errors, "NoCode", ["part", "index"]),
     (errors, "NotOver", ["rule"]),
     (errors, "NoRecipe", ["index"]),
+    (errors, "WrongKind", ["kind"]),
+    (errors, "NoSplit", ["part"]),
+    (errors, "ManyUnknowns", ["number"]),
+    (errors, "NotOnce", ["name"]),
+    (errors, "NoNumbers", ["index"]),
 ]
 
 
