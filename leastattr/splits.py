@@ -10,7 +10,7 @@ from leastattr.grammars import MOST_KINDS, MOST_RULES, Grammar, attribute_counts
 from leastattr.growth import Found, grown
 from leastattr.steps import checked_tree, rule_table
 from leastattr.surroundings import Surroundings
-from leastattr.systems import System
+from leastattr.systems import System, tuples_of
 
 MOST_STATE = 5
 TOP = "top"
@@ -162,12 +162,4 @@ def split_rules(grammar, automaton, pairs):
     for place, (kind, _) in enumerate(pairs):
         if kind == grammar.top:
             found.append((len(pairs), (place,), 0, same))
-    return found
-
-
-def tuples_of(choices):
-    """The list of all tuples with an item of each list, in the order of the lists."""
-    found = [()]
-    for items in choices:
-        found = [given + (item,) for given in found for item in items]
     return found

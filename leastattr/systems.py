@@ -111,6 +111,14 @@ def number_choices(many):
     return [(numbers, numbers) for numbers in found]
 
 
+def tuples_of(choices):
+    """The list of all tuples with an item of each list, in the order of the lists."""
+    found = [()]
+    for items in choices:
+        found = [given + (item,) for given in found for item in items]
+    return found
+
+
 def add_rows(one, factor, other):
     """A row and another one times a factor, number by number."""
     return [number + factor * more for number, more in zip(one, other)]

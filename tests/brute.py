@@ -188,6 +188,32 @@ def small_grammar(seed):
     return Grammar(width, [(name, tuple("xyz"[:sizes[name]])) for name in names], rules, top, answers)
 
 
+def joining_grammar(seed):
+    """A grammar of one kind with few leaves, rules that lead on slowly, and a rule "join" of two children.
+
+    What the join lacks to change places, to be bracketed otherwise or to keep a doubled child may show late.
+    """
+    dice = random.Random(seed)
+    width, size = dice.choice([(1, 2), (1, 3), (2, 1), (2, 2), (3, 1), (4, 1)])
+    numbers = dice.choice([0, 0, 0, 1]) if width < 4 else 0
+
+    def part(picks):
+        return (dice.choice([1, 1, 2 ** (width - 1), dice.randrange(2 ** width)]), picks,
+                dice.choice([-1] + list(range(numbers))))
+    rules = [("leaf", "t", (), 0, tuple(((dice.choice([0, 0, 1]), (), -1),) for _ in range(size)))]
+    if dice.randrange(2):
+        rules.append(("up", "t", ("t",), 0, tuple(((1, (at,), -1),) + small_sum(dice, width, [size], 0, 0)
+                                                  for at in range(size))))
+    values = []
+    for at in range(size):
+        both = dice.choice([[(1, (at, -1), -1), (1, (-1, at), -1)], [(1, (at, at), -1)], [(1, (at, -1), -1)]])
+        more = [part((dice.randrange(-1, size), dice.randrange(-1, size))) for _ in range(dice.choice([0, 0, 1, 2]))]
+        values.append(tuple(both + more))
+    rules.append(("join", "t", ("t", "t"), numbers, tuple(values)))
+    answers = [tuple(dice.choice([0, 1, dice.randrange(2 ** width)]) for _ in range(size + 1))]
+    return Grammar(width, [("t", tuple("xyz"[:size]))], rules, "t", answers)
+
+
 def copying_code(grammar):
     """The code over a grammar whose registers are the attributes."""
     names = [name for name, _ in grammar.kinds]

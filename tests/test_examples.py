@@ -1,4 +1,4 @@
-"""The sessions under "Examples" of the document that need no other files than those that are there."""
+"""The sessions under "Examples" of the document."""
 
 import unittest
 
@@ -208,6 +208,59 @@ SESSIONS = [
     >>> tree = [("nil", (), ()), ("one", (), ("x",)), ("put", (0, 1), ())]
     >>> [answers_with(sums, tree), mattering(sums, tree)]
     [[[(2, ()), (1, ('x',))]], ['x']]
+    ''',
+    r'''
+    >>> from leastattr.grammars import Grammar
+    >>> lists = Grammar(8, [('list', ('len', 'sum'))], [('nil', 'list', (), 0, ((), ())), ('cons', 'list', ('list',), 1, (((1, (0,), -1), (1, (-1,), -1)), ((1, (1,), -1), (1, (-1,), 0))))], 'list', [(0, 0, 1)])
+    >>> from leastattr.texts import grammar_text, read_grammar
+    >>> [grammar_text(lists).split('\n')[2:6], read_grammar(grammar_text(lists)) == lists]
+    [['rule nil list 0', 'len =', 'sum =', 'rule cons list 1 list'], True]
+    ''',
+    '''
+    >>> from leastattr.texts import read_tree, tree_text
+    >>> tree_text([('nil', (), ()), ('cons', (0,), (5,)), ('', 'list')])
+    'nil; cons 0 # 5; ? list'
+    ''',
+    '''
+    >>> from leastattr.grammars import Grammar
+    >>> from leastattr.order import brackets, swaps
+    >>> places = Grammar(8, [("t", ("n", "s", "p"))], [("leaf", "t", (), 1, (((1, (), -1),), ((1, (), 0),), ())), ("join", "t", ("t", "t"), 0, (((1, (0, -1), -1), (1, (-1, 0), -1)), ((1, (1, -1), -1), (1, (-1, 1), -1)), ((1, (2, -1), -1), (1, (-1, 2), -1), (1, (0, 1), -1))))], "t", [(0, 0, 0, 1)])
+    >>> [brackets(places, "join"), swaps(places, "join") is None]
+    [None, False]
+    ''',
+    '''
+    >>> from leastattr.grammars import Grammar
+    >>> from leastattr.order import doubled
+    >>> nodes = Grammar(8, [("t", ("n", "m"))], [("leaf", "t", (), 0, (((1, (), -1),), ((1, (), -1),))), ("join", "t", ("t", "t"), 0, (((1, (0, -1), -1), (1, (-1, 0), -1), (1, (-1, -1), -1)), ((1, (1, -1), -1), (1, (-1, 1), -1))))], "t", [(0, 1, 0)])
+    >>> bits = Grammar(6, [("b", ("x",))], [("zero", "b", (), 0, ((),)), ("one", "b", (), 0, (((1, (), -1),),)), ("both", "b", ("b", "b"), 0, (((1, (0, 0), -1),),))], "b", [(0, 1)])
+    >>> [doubled(bits, "both"), doubled(nodes, "join")[0][-1]]
+    [None, ('leaf', (), ())]
+    ''',
+    '''
+    >>> from leastattr.grammars import Grammar
+    >>> from leastattr.chains import chain_answers, chain_nodes, chain_value
+    >>> sums = Grammar(8, [("leaf", ("n",)), ("row", ("size", "total"))], [("one", "leaf", (), 1, (((1, (), 0),),)), ("nil", "row", (), 0, ((), ())), ("put", "row", ("row", "leaf"), 0, (((1, (0, -1), -1), (1, (-1, -1), -1)), ((1, (1, -1), -1), (1, (-1, 0), -1))))], "row", [(0, 2, 1)])
+    >>> loop = [("", "row"), ("one", (), (3,)), ("put", (0, 1), ())]
+    >>> tree = [("nil", (), ())]
+    >>> [chain_value(sums, loop, tree, 10 ** 30), chain_answers(sums, loop, tree, 4), chain_nodes(sums, loop, tree, 10 ** 30)]
+    [(0, 0), [20], 2000000000000000000000000000001]
+    ''',
+    '''
+    >>> from leastattr.grammars import Grammar
+    >>> from leastattr.chains import comes_back, first_time, loop_order
+    >>> sums = Grammar(8, [("leaf", ("n",)), ("row", ("size", "total"))], [("one", "leaf", (), 1, (((1, (), 0),),)), ("nil", "row", (), 0, ((), ())), ("put", "row", ("row", "leaf"), 0, (((1, (0, -1), -1), (1, (-1, -1), -1)), ((1, (1, -1), -1), (1, (-1, 0), -1))))], "row", [(0, 2, 1)])
+    >>> loop = [("", "row"), ("one", (), (3,)), ("put", (0, 1), ())]
+    >>> tree = [("nil", (), ())]
+    >>> [comes_back(sums, loop, tree), loop_order(sums, loop), first_time(sums, loop, tree, (0, 0, 1), 2), first_time(sums, loop, tree, (0, 0, 1), 2, start=87)]
+    [(0, 256), 256, 86, 342]
+    ''',
+    '''
+    >>> from leastattr.grammars import Grammar
+    >>> from leastattr.documents import Document
+    >>> sums = Grammar(8, [("leaf", ("n",)), ("row", ("size", "total"))], [("one", "leaf", (), 1, (((1, (), 0),),)), ("nil", "row", (), 0, ((), ())), ("put", "row", ("row", "leaf"), 0, (((1, (0, -1), -1), (1, (-1, -1), -1)), ((1, (1, -1), -1), (1, (-1, 0), -1))))], "row", [(0, 2, 1)])
+    >>> page = Document(sums, [("nil", (), ()), ("one", (), (5,)), ("put", (0, 1), ()), ("put", (2, 1), ())])
+    >>> [page.put_numbers((0, 1), [6]), page.answers_now(), page.put_tree((1,), [("one", (), (261,))]), page.undo()]
+    [3, [15], 1, True]
     ''',
 ]
 

@@ -3,8 +3,8 @@
 import inspect
 import unittest
 
-from leastattr import (apart, behaviours, codes, compiling, errors, exchange, grammars, hulls, judging, modules,
-                       recipes, splits, squares, trees, unknowns, wants)
+from leastattr import (apart, behaviours, chains, codes, compiling, documents, errors, exchange, grammars, hulls,
+                       judging, modules, order, recipes, splits, squares, texts, trees, unknowns, wants)
 
 ROWS = [
     (grammars, "Grammar", ["width", "kinds", "rules", "top", "answers"]),
@@ -65,6 +65,33 @@ ROWS = [
     (unknowns, "mattering", ["grammar", "tree"]),
     (unknowns, "put_in", ["grammar", "tree", "numbers"]),
     (unknowns, "parted", ["grammar", "one", "other"]),
+    (documents, "Document", ["grammar", "tree", "*code"]),
+    (documents.Document, "node_count", ["self"]),
+    (documents.Document, "kind_at", ["self", "path"]),
+    (documents.Document, "state_at", ["self", "path"]),
+    (documents.Document, "answers_now", ["self"]),
+    (documents.Document, "tree_at", ["self", "path"]),
+    (documents.Document, "context_at", ["self", "path"]),
+    (documents.Document, "put_tree", ["self", "path", "tree"]),
+    (documents.Document, "put_numbers", ["self", "path", "numbers"]),
+    (documents.Document, "undo", ["self"]),
+    (documents.Document, "redo", ["self"]),
+    (chains, "chain_value", ["grammar", "context", "tree", "times"]),
+    (chains, "chain_answers", ["grammar", "context", "tree", "times"]),
+    (chains, "chain_nodes", ["grammar", "context", "tree", "times"]),
+    (chains, "comes_back", ["grammar", "context", "tree"]),
+    (chains, "loop_order", ["grammar", "context"]),
+    (chains, "parting", ["grammar", "one", "other", "tree"]),
+    (chains, "first_time", ["grammar", "context", "tree", "form", "wish", "*start"]),
+    (texts, "grammar_text", ["grammar"]),
+    (texts, "read_grammar", ["text"]),
+    (texts, "tree_text", ["tree"]),
+    (texts, "read_tree", ["text"]),
+    (order, "swaps", ["grammar", "name"]),
+    (order, "brackets", ["grammar", "name"]),
+    (order, "idle", ["grammar", "context"]),
+    (order, "crossed", ["grammar", "one", "other"]),
+    (order, "doubled", ["grammar", "name"]),
     (errors, "NoGrammar", ["part", "index"]),
     (errors, "NoRows", ["part", "index"]),
     (errors, "NoTree", ["index"]),
@@ -82,7 +109,13 @@ ROWS = [
     (errors, "ManyUnknowns", ["number"]),
     (errors, "NotOnce", ["name"]),
     (errors, "NoNumbers", ["index"]),
+    (errors, "NoText", ["row"]),
+    (errors, "NoPath", ["path"]),
+    (errors, "LargeTree", ["nodes"]),
+    (errors, "NoRule", ["rule"]),
+    (errors, "NoCount", ["part"]),
 ]
+DEFAULTS = {"code": None, "start": 0}
 
 
 class InterfaceTest(unittest.TestCase):
@@ -90,14 +123,21 @@ class InterfaceTest(unittest.TestCase):
     def test_names_and_parameters(self):
         for module, name, parameters in ROWS:
             with self.subTest(name=name):
-                found = inspect.signature(getattr(module, name)).parameters
-                self.assertEqual(list(found), parameters)
-                kinds = [parameter.kind for parameter in found.values()]
-                self.assertEqual(set(kinds), {inspect.Parameter.POSITIONAL_OR_KEYWORD})
+                found = []
+                for parameter in inspect.signature(getattr(module, name)).parameters.values():
+                    alone = parameter.kind == inspect.Parameter.KEYWORD_ONLY
+                    found.append("*" * alone + parameter.name)
+                    self.assertIn(parameter.kind, (inspect.Parameter.POSITIONAL_OR_KEYWORD,
+                                                   inspect.Parameter.KEYWORD_ONLY))
+                    wish = DEFAULTS[parameter.name] if alone else inspect.Parameter.empty
+                    self.assertIs(parameter.default, wish)
+                self.assertEqual(found, parameters)
 
     def test_each_is_defined_in_its_own_file(self):
         for module, name, _ in ROWS:
-            self.assertEqual(getattr(module, name).__module__, module.__name__)
+            home = module.__module__ if inspect.isclass(module) else module.__name__
+            self.assertEqual(getattr(module, name).__module__, home)
+            self.assertIn(name, vars(module))
 
 
 if __name__ == "__main__":
