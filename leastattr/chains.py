@@ -83,7 +83,7 @@ def parting(grammar, one, other, tree):
     far = point
     for times in range(len(point) + 1):
         if not likeness.is_alike(point[1:], far[1:]):
-            return (times,) + likeness.told(point[1:], far[1:])
+            return (times,) + likeness.witness(point[1:], far[1:])
         point = applied(first, point, grammar.width)
         far = applied(second, far, grammar.width)
     return None

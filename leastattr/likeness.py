@@ -27,7 +27,7 @@ class Likeness:
         """Whether two states are alike."""
         return self.heard(one) == self.heard(other)
 
-    def told(self, one, other):
+    def witness(self, one, other):
         """A tuple (context, index) that shows that two states are not alike."""
         differing = [at for at, (first, second) in enumerate(zip(self.heard(one), self.heard(other)))
                      if first != second]

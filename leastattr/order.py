@@ -68,7 +68,7 @@ def doubled(grammar, name):
     state = root_state(grammar, steps, ())
     apart = [numbers for numbers, _ in rule.choices
              if not likeness.is_alike(rule.reckoned((state, state), numbers), state)]
-    return (steps, apart[0]) + likeness.told(rule.reckoned((state, state), apart[0]), state)
+    return (steps, apart[0]) + likeness.witness(rule.reckoned((state, state), apart[0]), state)
 
 
 def rule_place(grammar, name):
@@ -108,7 +108,7 @@ def first_apart(likeness, at, kind, many, made):
         tree = growth.next_tree()
     trees, numbers, one, other = apart_among(likeness, growth, at, place, many, made)
     steps = tuple([tree_steps(likeness.grammar, growth.found, index) for index in trees])
-    return steps + (numbers,) + likeness.told(one, other)
+    return steps + (numbers,) + likeness.witness(one, other)
 
 
 def apart_among(likeness, growth, at, place, many, made):
@@ -138,7 +138,7 @@ def maps_apart(grammar, kind, one, other):
     if steps is None:
         return None
     point = (1,) + root_state(grammar, steps, ())
-    return (steps,) + likeness.told(applied(one, point, grammar.width)[1:], applied(other, point, grammar.width)[1:])
+    return (steps,) + likeness.witness(applied(one, point, grammar.width)[1:], applied(other, point, grammar.width)[1:])
 
 
 def through(row, forms, width):

@@ -137,7 +137,7 @@ def read_term(word, inner):
     if not is_number(parts[0]):
         return None
     number = -1
-    if len(parts) > 1 and parts[-1].startswith("#"):
+    if parts[-1].startswith("#"):
         if not is_whole(parts[-1][1:]):
             return None
         number = int(parts[-1][1:])

@@ -3,6 +3,7 @@
 import random
 
 from leastattr.codes import Code
+from leastattr.documents import Document
 from leastattr.errors import NoKind
 from leastattr.grammars import Grammar
 
@@ -229,6 +230,7 @@ def odd_values():
         ("leaf",), set(), {"leaf"}, frozenset(), range(0), range(3), slice(1), object(), Things(), Things, int, len,
         Ellipsis, NotImplemented, iter([]), iter(()), zip(), map(len, []), (x for x in ()), itself(), (itself(),),
         Exception("leaf"), NoKind("leaf"), sums_grammar(), twice_code(), Grammar, Code, [[]], ((),), [()], "0", "1",
+        Document(once_grammar(), [("leaf", (), (1,))]),
     ]
 
 

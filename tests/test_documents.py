@@ -444,9 +444,10 @@ class WrongArgumentsTest(unittest.TestCase):
         with self.assertRaises(LargeTree) as caught:
             Document(nodes, doubled_leaves(10), code=5)
         self.assertEqual(caught.exception.nodes, 1023)
-        with self.assertRaises(NotTop) as caught:
-            Document(nodes, doubled_leaves(3), code=5)
-        self.assertEqual(caught.exception.kind, "t")
+        for grammar, tree, kind in ((nodes, doubled_leaves(3), "t"), (sums, NIL + [("one", (), (1,))], "leaf")):
+            with self.assertRaises(NotTop) as caught:
+                Document(grammar, tree, code=5)
+            self.assertEqual(caught.exception.kind, kind)
 
     def test_not_over(self):
         sums = sums_grammar()

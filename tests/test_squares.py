@@ -11,7 +11,7 @@ from leastattr.hulls import relations
 from leastattr.modules import echelon
 from leastattr.squares import breaking, quadratics
 from leastattr.trees import kind_of, value
-from brute import all_rows, elements_of, small_grammar, trees_of
+from brute import all_rows, elements_of, small_grammar, small_sum, trees_of
 from samples import (DOUBLING_NODES, are_tidy, bare_grammar, bits_grammar, doubling_grammar, mixed_grammar,
                      no_integers, nodes_grammar, nodes_of, odd_values, places_grammar, random_tree, sums_grammar,
                      wide_grammar)
@@ -106,6 +106,25 @@ class QuadraticsTest(unittest.TestCase):
             for number in range(256):
                 self.assertEqual(squared_at(form, (number, 3 * number + 1), 8), 0)
         self.assertIn((1, 3, 255, 0, 0, 0), elements_or_sums(found, (1, 3, 255, 0, 0, 0)))
+
+    def test_two_numbers_at_a_node(self):
+        for seed in range(24):
+            dice = random.Random(seed)
+            width = dice.choice([2, 2, 3])
+            size = 2 if width == 2 else 1
+            rules = [(name, "a", ("a",) * many, 2, tuple(small_sum(dice, width, [size] * many, 2, 4)
+                                                         for _ in range(size)))
+                     for many, name in enumerate(("leaf", "up", "join"))]
+            grammar = Grammar(width, [("a", ("x", "y")[:size])], rules, "a", [(0,) + (1,) * size])
+            states = trees_of(grammar)[0]
+            found = quadratics(grammar, "a")
+            wish = {form for form in all_rows(width, squared_size(size))
+                    if all(squared_at(form, state, width) == 0 for state in states)}
+            self.assertEqual(elements_of(width, squared_size(size), found), wish)
+            for form in some_forms(width, size, dice, 20):
+                nodes = [many for state, many in states.items() if squared_at(form, state, width)]
+                tree = breaking(grammar, "a", form)
+                self.assertEqual(None if tree is None else nodes_of(tree), min(nodes, default=None))
 
     def test_leaves_that_span_all_numbers_may_be_bits(self):
         self.assertEqual(relations(bits_grammar(), "b"), [])

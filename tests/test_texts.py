@@ -308,6 +308,8 @@ class TreeTextTest(unittest.TestCase):
         self.tree_fails(0, [("a", [], ())])
         self.tree_fails(0, [("a", (), [])])
         self.tree_fails(0, [["", "a"]])
+        for step in (("", "a", ()), ("", "a", (), ()), ("",), ("a", "a"), ("a", (), (), ()), ("", (), ())):
+            self.tree_fails(0, [step])
         self.assertEqual(tree_text([("", "a")]), "? a")
 
 

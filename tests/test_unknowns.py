@@ -190,7 +190,8 @@ class UnknownsTest(unittest.TestCase):
                     unknowns(sums, [NIL, ("one", (), (thing,)), ("put", (0, 1), ())])
                 self.assertEqual(caught.exception.index, 1)
         for step in (("one", (), ()), ("one", (), ("x", "y")), ("one", (), "x"), ("one", (), ["x"]), ("one", "x", (1,)),
-                     ("x", (), (1,)), ("nil", (), ("x",)), ["one", (), ("x",)]):
+                     ("x", (), (1,)), ("nil", (), ("x",)), ["one", (), ("x",)], ("one", (), ("x",), ()),
+                     ("one", (), ("x",), 5), ("one", ()), ("one", ("x",), (1,))):
             with self.assertRaises(NoTree) as caught:
                 unknowns(sums, [NIL, step, ("put", (0, 1), ())])
             self.assertEqual(caught.exception.index, 1)
